@@ -1,0 +1,1 @@
+"""A store of built things: valid places, references by mention, batches, knots, copying in order, parcels."""
