@@ -4,10 +4,8 @@ import unittest
 
 from tests.helper import (
     ABSENT, BROKEN, CLASH, COMMIT, COUNTS, DROP, FAR, FULL, LIMIT, LONG, NO_PLACES, PLACE, TWICE, VALID,
-    add, assert_refused, get, last, pinned, play, refs, room, stage, text_bytes, told)
-from wholekept.keeping import (
-    answer_add, answer_commit, answer_counts, answer_get, answer_pinned, answer_room, answer_stage)
-from wholekept.looking import answer_refs, answer_valid
+    add, assert_refused, get, last, lose, pinned, play, referrers, refs, room, stage, sweep, take, told)
+from wholekept.keeping import answer_add, answer_counts, answer_room
 from wholekept.state import Store
 
 
@@ -214,34 +212,48 @@ class GetAndPinned(unittest.TestCase):
 
 
 class PinsOutlastValidity(unittest.TestCase):
-    """No call of these takes a place's validity away, so the tests do it in the store itself."""
+    """5 holds "hi" and 6 "@5;"; then 6, or 5 and with it 6, isn't valid any more."""
 
     def setUp(self):
-        self.store = Store()
-        answer_add(self.store, 5, text_bytes("hi"))
-        answer_add(self.store, 6, text_bytes("@5;"))
-        self.store.held.pop(6)
+        self.house = [add(5, "hi"), add(6, "@5;")]
+        self.without_6 = [self.house + [call] for call in (take(6), sweep(5), lose(6))]
+        self.without_both = [self.house + [call] for call in (take(5, 6), sweep(), lose(5))]
 
     def test_pin_is_told_and_text_is_not(self):
-        self.assertEqual(answer_get(self.store, 6), ABSENT)
-        self.assertEqual(answer_refs(self.store, 6), ABSENT)
-        self.assertEqual(answer_pinned(self.store, 6), told("@5;"))
-        self.assertEqual(answer_valid(self.store), [0, 5])
-        self.assertEqual(answer_counts(self.store), [1, 2, 0, 2])
+        for before in self.without_6:
+            found = play(*before, get(6), refs(6), referrers(6), pinned(6), VALID, COUNTS, referrers(5))
+            self.assertEqual(found[3:], [ABSENT, ABSENT, ABSENT, told("@5;"), [0, 5], [1, 2, 0, 2], [0]])
 
     def test_comes_back_as_it_was_or_not_at_all(self):
-        self.assertEqual(answer_add(self.store, 6, text_bytes("@7;")), CLASH)
-        self.assertEqual(answer_add(self.store, 6, []), CLASH)
-        answer_stage(self.store, 6, text_bytes("other"))
-        self.assertEqual(answer_commit(self.store), CLASH)
-        self.assertEqual(answer_add(self.store, 6, text_bytes("@5;")), [1])
-        self.assertEqual(answer_refs(self.store, 6), [0, 5])
+        for before in self.without_6:
+            for other in ("", "@7;", "@5", "@5;x"):
+                assert_refused(self, before, add(6, other), CLASH, (5, 6))
+                assert_refused(self, before + [stage(6, other)], COMMIT, CLASH, (5, 6))
+            self.assertEqual(play(*before, add(6, "@5;"), add(6, "@5;"), refs(6))[3:], [[1], [0], [0, 5]])
+            self.assertEqual(play(*before, stage(6, "@5;"), COMMIT, get(6))[4:], [[0, 6], told("@5;")])
+            self.assertEqual(play(*before, add(6, "@5;"), COUNTS)[4], [2, 5, 0, 2])
 
-    def test_coming_back_is_looked_at_as_any_batch(self):
-        self.store.held.pop(5)
-        self.assertEqual(answer_add(self.store, 6, text_bytes("@5;")), BROKEN)
-        answer_room(self.store, 1)
-        self.assertEqual(answer_add(self.store, 5, text_bytes("hi")), FULL)
+    def test_an_empty_text_is_a_pin_too(self):
+        self.assertEqual(play(add(5, ""), take(5), pinned(5), add(5, "a"), add(5, ""))[2:], [[0], CLASH, [1]])
+
+    def test_a_pin_is_no_valid_place_to_mention(self):
+        for before in self.without_both:
+            assert_refused(self, before, add(6, "@5;"), BROKEN, (5, 6))
+            assert_refused(self, before, add(7, "@5;"), BROKEN, (5, 6, 7))
+            assert_refused(self, before + [stage(7, ""), stage(6, "@5;")], COMMIT, BROKEN, (5, 6, 7))
+            self.assertEqual(play(*before, stage(6, "@5;"), stage(5, "hi"), COMMIT)[-1], [0, 5, 6])
+            self.assertEqual(play(*before, add(5, "hi"), add(6, "@5;"))[-2:], [[1], [1]])
+
+    def test_coming_back_needs_room(self):
+        for before in self.without_both:
+            assert_refused(self, before + [room(1)], add(5, "hi"), FULL, (5, 6))
+            self.assertEqual(last(*before, room(2), add(5, "hi")), [1])
+            self.assertEqual(last(*before, room(0), COUNTS), [0, 0, 0, 2])
+
+    def test_clash_is_looked_at_first(self):
+        for before in self.without_both:
+            self.assertEqual(last(*before, room(0), add(5, "@6;")), CLASH)
+            self.assertEqual(last(*before, room(0), add(6, "@5;")), BROKEN)
 
 
 class Counts(unittest.TestCase):
@@ -251,6 +263,11 @@ class Counts(unittest.TestCase):
     def test_all_four(self):
         found = last(add(1, "abc"), add(2, "@1;"), add(4, ""), stage(9, "long one"), stage(8, ""), COUNTS)
         self.assertEqual(found, [3, 6, 2, 3])
+
+    def test_validity_that_is_lost(self):
+        found = play(add(1, "abc"), add(2, "@1;"), add(4, "x"), stage(9, "a"), take(4), COUNTS, lose(1), COUNTS,
+                     add(1, "abc"), COUNTS, sweep(), COUNTS)
+        self.assertEqual(found[5::2], [[2, 6, 1, 3], [0, 0, 1, 3], [1, 3, 1, 3], [0, 0, 1, 3]])
 
 
 if __name__ == "__main__":

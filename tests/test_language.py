@@ -28,6 +28,9 @@ WORDS = """
 type typing typing_extensions enum Enum IntEnum StrEnum Flag IntFlag Generic Protocol ABC ABCMeta namedtuple NamedTuple
 TypedDict TYPE_CHECKING abstractmethod
 """.split()
+NOWHERE = """
+register mro elements open input version_info with_traceback add_note format format_map f_back tb_next co_names
+""".split()
 DUNDERS = ("__init__", "__eq__", "__repr__", "__str__", "__len__")
 PYTHONS_OWN = set(dir(__builtins__) if not isinstance(__builtins__, dict) else __builtins__)
 
@@ -147,6 +150,9 @@ class Statements(unittest.TestCase):
             self.assertNotIsInstance(node.targets[0], (ast.Tuple, ast.List, ast.Starred), (path, node.lineno))
         for path, node in walked((ast.For, ast.While)):
             self.assertEqual(node.orelse, [], (path, node.lineno))
+        for path, node in walked(ast.ListComp):
+            self.assertEqual(len(node.generators), 1, (path, node.lineno))
+            self.assertLessEqual(len(node.generators[0].ifs), 1, (path, node.lineno))
         for path, node in walked(ast.Compare):
             for sign, right in zip(node.ops, node.comparators):
                 if isinstance(sign, (ast.Is, ast.IsNot)):
@@ -155,6 +161,19 @@ class Statements(unittest.TestCase):
             self.assertIsInstance(node.value, (int, str, type(None)))
             if isinstance(node.value, str):
                 self.assertNotIn("%", node.value)
+
+
+class Loops(unittest.TestCase):
+    CHANGES = "append clear extend insert pop remove reverse setdefault update".split()
+
+    def test_what_a_loop_walks_is_not_changed_in_it(self):
+        for path, loop in walked(ast.For):
+            names = {ast.dump(node) for node in ast.walk(loop.iter) if isinstance(node, (ast.Name, ast.Attribute))}
+            for node in [inner for part in loop.body for inner in ast.walk(part)]:
+                if isinstance(node, ast.Call) and getattr(node.func, "attr", "") in self.CHANGES:
+                    self.assertNotIn(ast.dump(node.func.value), names, (path, node.lineno))
+                if isinstance(node, ast.Subscript) and isinstance(node.ctx, ast.Store):
+                    self.assertNotIn(ast.dump(node.value), names, (path, node.lineno))
 
 
 class Names(unittest.TestCase):
@@ -167,6 +186,11 @@ class Names(unittest.TestCase):
             self.assertFalse(node.id.startswith("_"), (path, node.id))
         for path, node in walked(ast.arg):
             self.assertNotIn(node.arg, PYTHONS_OWN, path)
+
+    def test_names_that_are_not_used(self):
+        for path, node in walked((ast.Name, ast.Attribute, ast.arg, ast.FunctionDef, ast.ClassDef)):
+            name = [getattr(node, part) for part in ("id", "attr", "arg", "name") if hasattr(node, part)][0]
+            self.assertNotIn(name, NOWHERE, path)
 
     def test_locals_are_unlike_imports_and_classes(self):
         for path, tree in trees():

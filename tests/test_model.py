@@ -5,7 +5,8 @@ import re
 import unittest
 
 from tests.helper import (
-    COMMIT, COUNTS, DROP, VALID, add, closure, get, parcel_of, pinned, play, read, referrers, refs, room, stage)
+    COMMIT, COUNTS, DROP, TOPS, VALID, above, add, closure, freed, get, knot, lose, missing, order, parcel_of, pinned,
+    play, read, referrers, refs, room, stage, sweep, take, write)
 
 MENTION = re.compile(rb"@(0|[1-9][0-9]*);")
 RECORD = re.compile(rb"(0|[1-9][0-9]{0,8}):(0|[1-9][0-9]{0,8}):")
@@ -94,15 +95,70 @@ class Model:
             return self.look([p])
         return [0] + sorted(q for q in self.now if q != p and str(p) in mentioned(self.now[q]))
 
-    def closure(self, goals):
-        if self.look(goals) != [0]:
-            return self.look(goals)
+    def reach(self, goals):
         found, before = set(goals), None
         while found != before:
             before = set(found)
             for p in before:
                 found |= set(map(int, mentioned(self.now[p])))
-        return [0] + sorted(found)
+        return found
+
+    def knot(self, p):
+        return {q for q in self.reach([p]) if p in self.reach([q])}
+
+    def reaching(self, goals):
+        return {p for p in self.now if self.reach([p]) & set(goals)}
+
+    def order(self, goals):
+        knots = {frozenset(self.knot(p)) for p in self.reach(goals)}
+        listed = []
+        while knots:
+            free = [k for k in knots if all(set(map(int, mentioned(self.now[p]))) <= k | set(listed) for p in k)]
+            chosen = min(free, key=min)
+            listed += sorted(chosen)
+            knots.remove(chosen)
+        return listed
+
+    def tops(self):
+        found = []
+        for p in sorted(self.now):
+            whole = self.knot(p)
+            if all(q in whole or not whole & set(map(int, mentioned(self.now[q]))) for q in self.now):
+                found.append(p)
+        return [0] + found
+
+    def leave(self, places):
+        for p in places:
+            del self.now[p]
+        return [0] + sorted(places)
+
+    def take(self, places):
+        outside = set(self.now) - set(places)
+        if any(mentioned(self.now[q]) & set(map(str, places)) for q in outside):
+            return [-8]
+        return self.leave(set(places))
+
+    def write(self, goals):
+        parcel = b"".join(b"%d:%d:%s\n" % (p, len(self.now[p]), self.now[p]) for p in self.order(goals)) + b"."
+        return [0, *parcel] if len(parcel) <= 8192 else [-2]
+
+    def listed(self, kind, *lists):
+        """The answer of a call of lists of places, each of which is looked at."""
+        for places in lists:
+            if self.look(places) != [0]:
+                return self.look(places)
+        return {
+            "closure": lambda goals: [0] + sorted(self.reach(goals)),
+            "above": lambda goals: [0] + sorted(self.reaching(goals)),
+            "order": lambda goals: [0] + self.order(goals),
+            "take": self.take,
+            "sweep": lambda roots: self.leave(set(self.now) - self.reach(roots)),
+            "lose": lambda places: self.leave(self.reaching(places)),
+            "knot": lambda places: [0] + sorted(self.knot(places[0])),
+            "freed": lambda places, roots: [0] + sorted(self.reach(places) - self.reach(roots)),
+            "missing": lambda goals, there: [0] + [p for p in self.order(goals) if p not in self.reach(there)],
+            "write": self.write,
+        }[kind](*lists)
 
     def records(self, parcel):
         found, at = [], 0
@@ -140,6 +196,12 @@ class Model:
         return MENTION.sub(lambda found: b"@%s;" % names.get(found[1].decode(), found[1].decode()).encode(), text)
 
 
+LISTED = {"closure": closure, "above": above, "order": order, "take": take, "sweep": sweep, "lose": lose,
+          "write": write}
+KINDS = ("room " + "add " * 4 + "stage " * 6 + "commit " * 4 + "drop get pinned counts valid refs referrers closure "
+         "above knot knot order order tops tops take take sweep lose freed missing missing write read read").split()
+
+
 class Maker:
     """Makes up calls over few places, so that they often meet."""
 
@@ -151,6 +213,13 @@ class Maker:
         if self.random.random() < 0.04:
             return self.random.choice((-1, 1024, 10 ** 18, -10 ** 18))
         return self.random.choice((0, 1, 2, 3, 5, 7, 10, 1023))
+
+    def places(self):
+        """Mostly few, so that not one of them is absent."""
+        chosen = [self.place() for k in range(self.random.choice((0, 1, 1, 1, 2, 3)))]
+        if self.random.random() < 0.1:
+            return chosen + chosen[-1:] * self.random.choice((62, 63, 64))
+        return chosen
 
     def piece(self):
         place = self.random.choice((0, 1, 2, 3, 5, 7, 10, 1023))
@@ -190,16 +259,21 @@ class Maker:
 
     def call(self):
         """A call, and what asks the model for the same."""
-        kind = self.random.choice(("room", "add", "add", "add", "stage", "stage", "stage", "commit", "commit", "drop",
-                                   "get", "pinned", "counts", "valid", "refs", "referrers", "closure", "read", "read"))
+        kind = self.random.choice(KINDS)
         p = self.place()
         text = self.text(p)
         if kind == "room":
             n = self.random.choice((-1, 0, 10, 30, 60, 200, 65536, 65536, 65537))
             return room(n), lambda model: model.room(n)
-        if kind == "closure":
-            goals = [self.place() for k in range(self.random.choice((0, 1, 2, 3, 64, 65)))]
-            return closure(*goals), lambda model: model.closure(goals)
+        if kind in LISTED:
+            places = self.places()
+            return LISTED[kind](*places), lambda model: model.listed(kind, places)
+        if kind == "freed":
+            roots = self.places()
+            return freed(p, *roots), lambda model: model.listed("freed", [p], roots)
+        if kind == "missing":
+            goals, there = self.places(), self.places()
+            return missing(goals, there), lambda model: model.listed("missing", goals, there)
         if kind == "read":
             parcel, rule = self.parcel(), self.rule()
             return read(parcel, rule), lambda model: model.read(parcel, rule)
@@ -214,6 +288,8 @@ class Maker:
             "valid": (VALID, lambda model: [0] + sorted(model.now)),
             "refs": (refs(p), lambda model: model.refs(p)),
             "referrers": (referrers(p), lambda model: model.referrers(p)),
+            "knot": (knot(p), lambda model: model.listed("knot", [p])),
+            "tops": (TOPS, lambda model: model.tops()),
         }[kind]
 
 
@@ -236,9 +312,36 @@ class AsTheModel(unittest.TestCase):
         for kind, outcomes in ((0, (0, -6, -9)), (1, (0, -1, -2, -4, -5, -6)), (2, (0, -1, -2, -3)),
                                (3, (0, -4, -5, -6)),
                                (5, (0, -1, -7)), (6, (0, -1, -7)), (9, (0, -1, -7)), (10, (0, -1, -7)),
-                               (11, (0, -1, -7, -9)), (22, (0, -1, -3, -4, -5, -6, -10, -11))):
+                               (11, (0, -1, -7, -9)), (12, (0, -1, -7, -9)), (13, (0, -1, -7)),
+                               (14, (0, -1, -7, -9)), (15, (0,)), (16, (0, -1, -7, -8, -9)), (17, (0, -1, -7, -9)),
+                               (18, (0, -1, -7, -9)), (19, (0, -1, -7, -9)), (20, (0, -1, -7, -9)),
+                               (21, (0, -1, -7, -9)), (22, (0, -1, -3, -4, -5, -6, -10, -11))):
             for outcome in outcomes:
                 self.assertGreater(met.get((kind, outcome), 0), 4, (kind, outcome))
+
+    def test_webs_of_mentions(self):
+        # Many places at once, with knots of all sizes that interleave, and then all that goes along the references.
+        large = 0
+        for seed in range(60):
+            chance = random.Random(seed)
+            places = chance.sample(range(1024), 24)
+            texts = {p: "".join(f"@{q};" for q in chance.sample(places, chance.choice((0, 0, 1, 1, 1, 2))))
+                     for p in places}
+            few = chance.sample(places, 3)
+            parcel = parcel_of(*texts.items())
+            made = [(read(parcel), lambda model: model.read(parcel, [])), (TOPS, lambda model: model.tops())]
+            made += [(knot(p), lambda model, p=p: model.listed("knot", [p])) for p in places]
+            for kind in ("above", "order", "write", "missing", "freed", "take", "lose", "order", "sweep"):
+                lists = {"missing": (few[:2], few[2:]), "freed": (few[:1], few[1:])}.get(kind, (few,))
+                call = {"missing": missing, "freed": lambda one, roots: freed(*one, *roots)}.get(kind)
+                line = call(*lists) if call else LISTED[kind](*lists[0])
+                made.append((line, lambda model, kind=kind, lists=lists: model.listed(kind, *lists)))
+                made.append((TOPS, lambda model: model.tops()))
+            model = Model()
+            expected = [ask(model) for call, ask in made]
+            large += max(map(len, expected[2:26])) > 4
+            self.assertEqual(play(*[call for call, ask in made]), expected, f"seed {seed}")
+        self.assertGreater(large, 8)
 
 
 if __name__ == "__main__":

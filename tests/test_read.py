@@ -4,10 +4,7 @@ import unittest
 
 from tests.helper import (
     BROKEN, CLASH, COMMIT, COUNTS, FAR, FORM, FULL, LONG, PLACE, RULE, TWICE, VALID, add, assert_refused, get, last,
-    parcel_of, pinned, play, read, refs, room, stage, text_bytes, told)
-from wholekept.state import Store
-from wholekept.keeping import answer_add
-from wholekept.reading import answer_read
+    lose, parcel_of, pinned, play, read, refs, room, stage, sweep, take, told)
 
 
 class Parcels(unittest.TestCase):
@@ -181,12 +178,45 @@ class Refusals(unittest.TestCase):
         parcel = parcel_of((9, ""), (5, "hi"), (1, "@5;@9;"))
         self.assertEqual(play(add(5, "hi"), read(parcel), read(parcel)), [[1], [0, 1, 9], [0]])
 
-    def test_pins_outlast_validity(self):
-        store = Store()
-        answer_add(store, 5, text_bytes("hi"))
-        store.held.pop(5)
-        self.assertEqual(answer_read(store, parcel_of((5, "ho")), []), CLASH)
-        self.assertEqual(answer_read(store, parcel_of((5, "hi")), []), [0, 5])
+
+class AfterValidityIsLost(unittest.TestCase):
+    """5 holds "hi" and 6 "@5;"; then 6, or 5 and with it 6, isn't valid any more."""
+
+    def setUp(self):
+        self.house = [add(5, "hi"), add(6, "@5;")]
+        self.without_6 = [self.house + [call] for call in (take(6), sweep(5), lose(6))]
+        self.without_both = [self.house + [call] for call in (take(5, 6), sweep(), lose(5))]
+
+    def test_comes_back_as_it_was_or_not_at_all(self):
+        for before in self.without_6:
+            assert_refused(self, before, read(parcel_of((6, "ho"))), CLASH, (5, 6))
+            assert_refused(self, before, read(parcel_of((1, ""), (6, ""))), CLASH, (1, 5, 6))
+            self.assertEqual(play(*before, read(parcel_of((6, "@5;"))), get(6), COUNTS)[3:],
+                             [[0, 6], told("@5;"), [2, 5, 0, 2]])
+            self.assertEqual(last(*before, read(parcel_of((6, "@5;"), (5, "hi")))), [0, 6])
+
+    def test_the_renamed_text_is_held_against_the_pin(self):
+        for before in self.without_6:
+            self.assertEqual(last(*before, read(parcel_of((8, "@9;")), (8, 6, 9, 5))), [0, 6])
+            assert_refused(self, before, read(parcel_of((8, "@5;")), (8, 6, 5, 9)), CLASH, (5, 6, 8))
+            self.assertEqual(last(*before, read(parcel_of((6, "@7;")), (6, 8, 7, 5))), [0, 8])
+
+    def test_a_pin_is_no_valid_place_to_mention(self):
+        for before in self.without_both:
+            assert_refused(self, before, read(parcel_of((6, "@5;"))), BROKEN, (5, 6))
+            assert_refused(self, before, read(parcel_of((7, "@8;")), (8, 5)), BROKEN, (5, 6, 7))
+            self.assertEqual(last(*before, read(parcel_of((6, "@5;"), (5, "hi")))), [0, 5, 6])
+
+    def test_coming_back_needs_room(self):
+        for before in self.without_both:
+            parcel = parcel_of((6, "@5;"), (5, "hi"))
+            assert_refused(self, before + [room(4)], read(parcel), FULL, (5, 6))
+            self.assertEqual(last(*before, room(5), read(parcel)), [0, 5, 6])
+
+    def test_what_is_staged_stays(self):
+        for before in self.without_both:
+            found = play(*before, stage(5, "hi"), read(parcel_of((5, "hi"))), COUNTS, COMMIT, COUNTS)
+            self.assertEqual(found[4:], [[0, 5], [1, 2, 1, 2], [0], [1, 2, 0, 2]])
 
 
 if __name__ == "__main__":

@@ -2,6 +2,7 @@
 
 from wholekept.numerals import byte_stands
 from wholekept.numerals import number_between
+from wholekept.numerals import numeral
 from wholekept.numerals import numeral_end
 
 PARCEL_LIMIT = 8192
@@ -61,3 +62,13 @@ def parcel_records(parcel):
     if index + 1 < len(parcel):
         return None
     return records
+
+
+def parcel_of(places, texts):
+    """The parcel with a record for each of the places, in their order; texts is a dict from places to texts."""
+    parcel = []
+    for place in places:
+        text = texts[place]
+        parcel.extend(numeral(place) + [COLON] + numeral(len(text)) + [COLON] + text + [LINE_END])
+    parcel.append(DOT)
+    return parcel

@@ -9,6 +9,7 @@ CLASH = -4
 BROKEN = -5
 FULL = -6
 ABSENT = -7
+HELD = -8
 LIMIT = -9
 FORM = -10
 RULE = -11
